@@ -1,0 +1,1 @@
+"""Totals over uneven hierarchies, decided for all hierarchies and all facts."""

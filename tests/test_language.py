@@ -1,0 +1,279 @@
+"""The code of the package keeps to a small part of Python; these tests look at what can be seen from its form."""
+
+import ast
+import builtins
+import os
+import unittest
+
+import raggedtotals
+
+FOLDER = os.path.dirname(raggedtotals.__file__)
+FILES = sorted(name for name in os.listdir(FOLDER) if name != "__pycache__")
+BUILTINS = set(
+    "len range enumerate zip min max sum abs sorted reversed int str bool list tuple dict set isinstance ord repr any "
+    "all divmod super property staticmethod Exception ValueError TypeError KeyError IndexError LookupError "
+    "ZeroDivisionError ArithmeticError OverflowError RuntimeError NotImplementedError".split()
+)
+METHODS = set(
+    "append clear copy count endswith extend find get index insert isalnum isalpha isdigit islower isspace isupper "
+    "items join keys ljust lower lstrip partition pop remove replace reverse rfind rjust rpartition rsplit rstrip "
+    "setdefault split splitlines startswith strip update upper values zfill bit_length add discard".split()
+)
+DOUBLES = set(
+    "__init__ __eq__ __repr__ __str__ __len__ __call__ __iter__ __contains__ __and__ __or__ __rshift__ "
+    "__invert__".split()
+)
+BARRED = set(
+    "register mro elements open input law version_info with_traceback add_note type typing enum globals locals vars "
+    "dir id help exit quit eval exec compile os sys gc dataclass namedtuple abstractmethod overload".split()
+)
+
+
+def source_of(name):
+    with open(os.path.join(FOLDER, name), encoding="utf-8") as file:
+        return file.read()
+
+
+def trees():
+    return {name: ast.parse(source_of(name)) for name in FILES if name.endswith(".py")}
+
+
+TREES = trees()
+OWN_METHODS = {
+    item.name for tree in TREES.values() for node in ast.walk(tree) if isinstance(node, ast.ClassDef)
+    for item in node.body if isinstance(item, ast.FunctionDef)
+}
+OWN_ERRORS = {node.name for node in TREES["errors.py"].body if isinstance(node, ast.ClassDef)}
+
+
+def walk(kind):
+    """All nodes of a kind, with a word for the place where they are."""
+    for name, tree in TREES.items():
+        for node in ast.walk(tree):
+            if isinstance(node, kind):
+                yield f"{name}:{getattr(node, 'lineno', 0)}", node
+
+
+def bound_names(tree):
+    """All names that a file binds anywhere."""
+    found = set()
+    for node in ast.walk(tree):
+        if isinstance(node, (ast.FunctionDef, ast.ClassDef)):
+            found.add(node.name)
+        elif isinstance(node, ast.arg):
+            found.add(node.arg)
+        elif isinstance(node, ast.Name) and isinstance(node.ctx, ast.Store):
+            found.add(node.id)
+        elif isinstance(node, ast.ImportFrom):
+            found.update(alias.asname or alias.name for alias in node.names)
+    return found
+
+
+class FormTest(unittest.TestCase):
+    def test_files(self):
+        self.assertIn("__init__.py", FILES)
+        for name in FILES:
+            self.assertRegex(name, r"\A[a-z_]+\.py\Z")
+
+    def test_lines_and_signs(self):
+        for name in FILES:
+            text = source_of(name)
+            lines = text.split("\n")
+            self.assertTrue(len(lines) < 400, name)
+            self.assertTrue(max(len(line) for line in lines) <= 120, name)
+            self.assertTrue(all(sign == "\n" or " " <= sign <= "~" for sign in text), name)
+
+    def test_functions_are_small(self):
+        for place, node in walk(ast.FunctionDef):
+            self.assertTrue(node.end_lineno - node.lineno < 40, place)
+
+    def test_kinds_of_statements_and_values(self):
+        for place, node in walk((
+            ast.Lambda, ast.GeneratorExp, ast.Global, ast.Nonlocal, ast.With, ast.Await, ast.AsyncFunctionDef,
+            ast.AnnAssign, ast.Div, ast.Import, ast.Match, ast.NamedExpr, ast.Assert, ast.YieldFrom, ast.Delete,
+        )):
+            self.fail(f"{place} {type(node).__name__}")
+        for place, node in walk(ast.Constant):
+            self.assertNotIsInstance(node.value, (float, complex), place)
+        for place, node in walk((ast.arg, ast.FunctionDef)):
+            self.assertIsNone(node.annotation if isinstance(node, ast.arg) else node.returns, place)
+
+    def test_strings_have_no_percent(self):
+        for place, node in walk(ast.Constant):
+            if isinstance(node.value, str):
+                self.assertNotIn("%", node.value, place)
+
+    def test_module_level(self):
+        for name, tree in TREES.items():
+            for index, node in enumerate(tree.body):
+                if index == 0:
+                    self.assertIsInstance(node, ast.Expr, name)
+                    self.assertIsInstance(node.value.value, str, name)
+                elif isinstance(node, ast.Assign):
+                    self.assertIsInstance(node.value, ast.Constant, name)
+                else:
+                    self.assertIsInstance(node, (ast.ImportFrom, ast.FunctionDef, ast.ClassDef), name)
+            kinds = [isinstance(node, ast.ImportFrom) for node in tree.body[1:]]
+            self.assertEqual(kinds, sorted(kinds, reverse=True), name)
+
+    def test_no_name_is_bound_twice(self):
+        for name, tree in TREES.items():
+            found = [node.name for node in tree.body if isinstance(node, (ast.FunctionDef, ast.ClassDef))]
+            found += [alias.name for node in tree.body if isinstance(node, ast.ImportFrom) for alias in node.names]
+            found += [node.targets[0].id for node in tree.body if isinstance(node, ast.Assign)]
+            self.assertEqual(len(found), len(set(found)), name)
+            inner = {node.arg for node in ast.walk(tree) if isinstance(node, ast.arg)}
+            inner |= {node.id for node in ast.walk(tree) if isinstance(node, ast.Name) and isinstance(node.ctx, ast.Store)}
+            inner -= {node.targets[0].id for node in tree.body if isinstance(node, ast.Assign)}
+            self.assertEqual(inner & set(found), set(), name)
+
+    def test_every_function_and_class_has_a_docstring(self):
+        for place, node in walk((ast.FunctionDef, ast.ClassDef)):
+            if not node.name.startswith("__"):
+                self.assertTrue(ast.get_docstring(node), place)
+
+
+class ImportTest(unittest.TestCase):
+    def test_imports_name_the_very_file(self):
+        for place, node in walk(ast.ImportFrom):
+            self.assertEqual(node.level, 0, place)
+            self.assertTrue(node.module.startswith("raggedtotals."), place)
+            tree = TREES[node.module.split(".")[1] + ".py"]
+            defined = {item.name for item in tree.body if isinstance(item, (ast.FunctionDef, ast.ClassDef))}
+            defined |= {item.targets[0].id for item in tree.body if isinstance(item, ast.Assign)}
+            for alias in node.names:
+                self.assertIsNone(alias.asname, place)
+                self.assertIn(alias.name, defined, place)
+
+    def test_no_two_files_import_from_each_other(self):
+        needs = {
+            name: {node.module.split(".")[1] + ".py" for node in tree.body if isinstance(node, ast.ImportFrom)}
+            for name, tree in TREES.items()
+        }
+        left = dict(needs)
+        while left:
+            free = [name for name in left if not left[name] & set(left)]
+            self.assertTrue(free, sorted(left))
+            left = {name: left[name] for name in left if name not in free}
+
+    def test_every_import_is_used(self):
+        for name, tree in TREES.items():
+            used = {node.id for node in ast.walk(tree) if isinstance(node, ast.Name)}
+            for node in tree.body:
+                if isinstance(node, ast.ImportFrom):
+                    for alias in node.names:
+                        self.assertIn(alias.name, used, name)
+
+
+class NameTest(unittest.TestCase):
+    def test_builtins(self):
+        for name, tree in TREES.items():
+            bound = bound_names(tree)
+            for node in ast.walk(tree):
+                if isinstance(node, ast.Name) and node.id not in bound:
+                    self.assertIn(node.id, BUILTINS, f"{name}:{node.lineno}")
+            self.assertEqual({item for item in bound - DOUBLES if hasattr(builtins, item)}, set(), name)
+
+    def test_names(self):
+        for name, tree in TREES.items():
+            self.assertEqual(bound_names(tree) & BARRED, set(), name)
+            for item in bound_names(tree):
+                self.assertTrue(not item.startswith("__") or item in DOUBLES, f"{name} {item}")
+
+    def test_methods(self):
+        for place, node in walk(ast.Call):
+            if isinstance(node.func, ast.Attribute):
+                self.assertTrue(node.func.attr in METHODS or node.func.attr in OWN_METHODS
+                                or node.func.attr.startswith("_"), f"{place} {node.func.attr}")
+
+    def test_decorators(self):
+        for place, node in walk(ast.FunctionDef):
+            for item in node.decorator_list:
+                self.assertIn(ast.unparse(item), ("property", "staticmethod"), place)
+
+    def test_is_stands_beside_none(self):
+        for place, node in walk(ast.Compare):
+            for sign, right in zip(node.ops, node.comparators):
+                if isinstance(sign, (ast.Is, ast.IsNot)):
+                    self.assertIn(ast.unparse(right), ("None", "True", "False"), place)
+
+    def test_properties_and_methods_are_apart(self):
+        properties, methods, attributes = set(), set(), set()
+        for _, node in walk(ast.ClassDef):
+            for item in node.body:
+                if isinstance(item, ast.FunctionDef):
+                    marked = [ast.unparse(row) for row in item.decorator_list]
+                    (properties if "property" in marked else methods).add(item.name)
+        for _, node in walk(ast.Attribute):
+            if isinstance(node.ctx, ast.Store):
+                attributes.add(node.attr)
+        self.assertEqual(properties & methods, set())
+        self.assertEqual(attributes & (methods | properties), set())
+
+
+class UseTest(unittest.TestCase):
+    def test_sets_are_used_on_the_spot(self):
+        for name, tree in TREES.items():
+            parents = {child: node for node in ast.walk(tree) for child in ast.iter_child_nodes(node)}
+            for node in ast.walk(tree):
+                made = isinstance(node, ast.Call) and isinstance(node.func, ast.Name) and node.func.id == "set"
+                if made or isinstance(node, (ast.Set, ast.SetComp)):
+                    above = parents[node]
+                    good = isinstance(above, ast.Compare) or (
+                        isinstance(above, ast.Call) and ast.unparse(above.func) in ("sorted", "len"))
+                    self.assertTrue(good, f"{name}:{node.lineno}")
+
+    def test_only_own_errors_are_caught(self):
+        for place, node in walk(ast.ExceptHandler):
+            kinds = node.type.elts if isinstance(node.type, ast.Tuple) else [node.type]
+            for kind in kinds:
+                self.assertIn(kind.id, OWN_ERRORS, place)
+
+    def test_errors_are_created_where_they_are_raised(self):
+        for place, node in walk(ast.Raise):
+            self.assertIsInstance(node.exc, ast.Call, place)
+            self.assertIn(node.exc.func.id, OWN_ERRORS | {"NotImplementedError"}, place)
+
+    def test_texts_and_properties_only_return(self):
+        for place, node in walk(ast.FunctionDef):
+            marked = [ast.unparse(row) for row in node.decorator_list]
+            if node.name in ("__str__", "__repr__", "__eq__", "__len__", "__contains__") or "property" in marked:
+                rows = [row for row in node.body if not isinstance(row, ast.Expr)]
+                self.assertEqual([isinstance(row, ast.Return) for row in rows], [True], place)
+            if node.name in ("__str__", "__repr__"):
+                value = node.body[-1].value
+                self.assertTrue(isinstance(value, ast.JoinedStr) or ast.unparse(value).startswith("str("), place)
+
+    def test_double_underscore_methods(self):
+        for place, node in walk(ast.FunctionDef):
+            if node.name.startswith("__"):
+                self.assertIn(node.name, DOUBLES, place)
+
+
+class InterfaceTest(unittest.TestCase):
+    FUNCTIONS = {"names.py": ["is_name", "is_link"], "texts.py": ["read_condition"]}
+    CLASSES = {
+        ("shapes.py", "Shape"): "__init__ read level levels links marks part mark __contains__ __eq__ __str__ __repr__",
+        ("schemas.py", "Schema"): "__init__ read base levels links marks rules above marks_of shapes fits allows "
+                                  "with_rule __eq__ __str__ __repr__",
+        ("conditions.py", "Condition"): "levels parts depth __call__ __and__ __or__ __rshift__ __invert__ __eq__ "
+                                        "__str__ __repr__",
+    }
+    for kind in "Reaches Way Via Marked Not All Any One If".split():
+        CLASSES["conditions.py", kind] = "__init__ __call__ WORD"
+
+    def test_functions_stand_in_their_files(self):
+        for name, wanted in self.FUNCTIONS.items():
+            found = {node.name for node in TREES[name].body if isinstance(node, ast.FunctionDef)}
+            self.assertTrue(set(wanted) <= found, name)
+
+    def test_methods_stand_in_their_classes(self):
+        for (name, kind), wanted in self.CLASSES.items():
+            node = [row for row in TREES[name].body if isinstance(row, ast.ClassDef) and row.name == kind][0]
+            found = {row.name for row in node.body if isinstance(row, ast.FunctionDef)}
+            found |= {row.targets[0].id for row in node.body if isinstance(row, ast.Assign)}
+            self.assertEqual(set(wanted.split()) - found, set(), kind)
+
+
+if __name__ == "__main__":
+    unittest.main()
