@@ -2,7 +2,9 @@
 
 from raggedtotals.candidates import allowed_shapes
 from raggedtotals.conditions import Condition, check_condition
-from raggedtotals.errors import InvalidLevel, InvalidLinks, InvalidMarks, InvalidName, InvalidRules, InvalidText
+from raggedtotals.errors import (
+    InvalidLevel, InvalidLinks, InvalidMarks, InvalidName, InvalidRules, InvalidText, NotASchema,
+)
 from raggedtotals.graphs import levels_from
 from raggedtotals.limits import MAX_LEVELS, MAX_LINKS, MAX_MARKS, MAX_RULES
 from raggedtotals.names import check_name, is_name
@@ -103,10 +105,21 @@ def pieces_of(text):
     return first.partition(" ")[2], links, tuple(marks), tuple(rules)
 
 
+def is_level(schema, value):
+    """Whether any value is a level of the schema."""
+    return isinstance(value, str) and value in schema.levels
+
+
 def check_level(schema, level):
     """Raise InvalidLevel if any value is not a level of the schema."""
-    if level not in schema.levels:
+    if not is_level(schema, level):
         raise InvalidLevel(level)
+
+
+def check_schema(value):
+    """Raise NotASchema if the value is not a schema."""
+    if not isinstance(value, Schema):
+        raise NotASchema(value)
 
 
 class Schema:

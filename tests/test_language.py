@@ -11,7 +11,7 @@ FOLDER = os.path.dirname(raggedtotals.__file__)
 FILES = sorted(name for name in os.listdir(FOLDER) if name != "__pycache__")
 BUILTINS = set(
     "len range enumerate zip min max sum abs sorted reversed int str bool list tuple dict set isinstance ord repr any "
-    "all divmod super property staticmethod Exception ValueError TypeError KeyError IndexError LookupError "
+    "all divmod super iter property staticmethod Exception ValueError TypeError KeyError IndexError LookupError "
     "ZeroDivisionError ArithmeticError OverflowError RuntimeError NotImplementedError".split()
 )
 METHODS = set(
@@ -137,6 +137,9 @@ class ImportTest(unittest.TestCase):
     def test_imports_name_the_very_file(self):
         for place, node in walk(ast.ImportFrom):
             self.assertEqual(node.level, 0, place)
+            if node.module == "math":
+                self.assertTrue({alias.name for alias in node.names} <= {"gcd", "lcm"}, place)
+                continue
             self.assertTrue(node.module.startswith("raggedtotals."), place)
             tree = TREES[node.module.split(".")[1] + ".py"]
             defined = {item.name for item in tree.body if isinstance(item, (ast.FunctionDef, ast.ClassDef))}
@@ -147,7 +150,8 @@ class ImportTest(unittest.TestCase):
 
     def test_no_two_files_import_from_each_other(self):
         needs = {
-            name: {node.module.split(".")[1] + ".py" for node in tree.body if isinstance(node, ast.ImportFrom)}
+            name: {node.module.split(".")[1] + ".py" for node in tree.body
+                   if isinstance(node, ast.ImportFrom) and node.module != "math"}
             for name, tree in TREES.items()
         }
         left = dict(needs)
@@ -155,6 +159,13 @@ class ImportTest(unittest.TestCase):
             free = [name for name in left if not left[name] & set(left)]
             self.assertTrue(free, sorted(left))
             left = {name: left[name] for name in left if name not in free}
+
+    def test_names_of_the_library_are_only_called(self):
+        for name, tree in TREES.items():
+            called = {id(node.func) for node in ast.walk(tree) if isinstance(node, ast.Call) and not node.keywords}
+            for node in ast.walk(tree):
+                if isinstance(node, ast.Name) and node.id in ("gcd", "lcm"):
+                    self.assertIn(id(node), called, f"{name}:{node.lineno}")
 
     def test_every_import_is_used(self):
         for name, tree in TREES.items():
@@ -251,13 +262,20 @@ class UseTest(unittest.TestCase):
 
 
 class InterfaceTest(unittest.TestCase):
-    FUNCTIONS = {"names.py": ["is_name", "is_link"], "texts.py": ["read_condition"]}
+    FUNCTIONS = {
+        "names.py": ["is_name", "is_link"], "texts.py": ["read_condition"], "linear.py": ["solve"],
+        "consequences.py": ["is_possible", "follows", "breaking", "same_rules", "rules_difference", "idle_rules"],
+        "hierarchies.py": ["example_of"],
+    }
     CLASSES = {
         ("shapes.py", "Shape"): "__init__ read level levels links marks part mark __contains__ __eq__ __str__ __repr__",
         ("schemas.py", "Schema"): "__init__ read base levels links marks rules above marks_of shapes fits allows "
                                   "with_rule __eq__ __str__ __repr__",
         ("conditions.py", "Condition"): "levels parts depth __call__ __and__ __or__ __rshift__ __invert__ __eq__ "
                                         "__str__ __repr__",
+        ("hierarchies.py", "Hierarchy"): "__init__ of schema entries members entry shape ancestor below __len__ "
+                                         "__contains__ __iter__ __eq__ __repr__",
+        ("cubes.py", "Cube"): "__init__ schemas base is_view __len__ __eq__",
     }
     for kind in "Reaches Way Via Marked Not All Any One If".split():
         CLASSES["conditions.py", kind] = "__init__ __call__ WORD"

@@ -1,0 +1,106 @@
+"""A second reading of the document about hierarchies, made of sets and searched through, to compare the program with.
+
+A plain hierarchy is a list of entries (name, level, mark, parents).
+"""
+
+import itertools
+
+
+class Sly:
+    """A value that says that it equals everything, and that cannot be a key."""
+
+    def __eq__(self, other):
+        return True
+
+    __hash__ = None
+
+
+def entry_of(entries, name):
+    """The entry with this name."""
+    return [entry for entry in entries if entry[0] == name][0]
+
+
+def reach(entries, name):
+    """The set of the names of the members that a member reaches."""
+    found = {name}
+    for _ in entries:
+        found |= {parent for entry in entries if entry[0] in found for parent in entry[3]}
+    return found
+
+
+def plain_shape(entries, name):
+    """The plain shape (of the model) of a member."""
+    rows = [entry for entry in entries if entry[0] in reach(entries, name)]
+    links = {(entry[1], entry_of(entries, parent)[1]) for entry in rows for parent in entry[3]}
+    return entry_of(entries, name)[1], frozenset(links), {entry[1]: entry[2] for entry in rows if entry[2] is not None}
+
+
+def ancestors(entries, name, level):
+    """The list of the members of a level that a member reaches."""
+    return sorted(entry[0] for entry in entries if entry[1] == level and entry[0] in reach(entries, name))
+
+
+def descendants(entries, name, level):
+    """The list of the members of a level that reach a member."""
+    return sorted(entry[0] for entry in entries if entry[1] == level and name in reach(entries, entry[0]))
+
+
+def order_of(links, levels):
+    """These levels, each behind all those that links lead to from it."""
+    left, out = sorted(levels), []
+    while left:
+        free = [level for level in left if not any(lower == level and upper in left for lower, upper in links)]
+        out.extend(free)
+        left = [level for level in left if level not in free]
+    return out
+
+
+def put_in(chance, entries, shape, again=0.7):
+    """Give the entries a member with this shape, perhaps with members that are there already; return its name."""
+    chosen = {}
+    for level in order_of(shape.links, shape.levels):
+        parents = tuple(sorted(chosen[upper] for lower, upper in shape.links if lower == level))
+        same = [entry[0] for entry in entries if entry[1:] == (level, shape.mark(level), parents)]
+        if same and chance.random() < again and level != shape.level:
+            chosen[level] = chance.choice(same)
+        else:
+            chosen[level] = f"{level[:4]}{len(entries)}"
+            entries.append((chosen[level], level, shape.mark(level), parents))
+    return chosen[shape.level]
+
+
+def random_entries(chance, schema, count, again=0.7):
+    """Entries of a hierarchy of the schema with so many members that are put in with all above them."""
+    entries = []
+    shapes = [shape for level in schema.levels for shape in schema.shapes(level)]
+    base = list(schema.shapes(schema.base)) or shapes
+    for _ in range(count):
+        if shapes:
+            put_in(chance, entries, chance.choice(base if chance.random() < 0.7 else shapes), again)
+    chance.shuffle(entries)
+    return entries
+
+
+def level_of(entries, name):
+    """The level of a member; None for everything."""
+    return None if name == "*" else entry_of(entries, name)[1]
+
+
+def goes_into(hierarchies, cell, upper):
+    """Whether a cell goes into another one, for these plain hierarchies."""
+    return all(
+        above == "*" or (place != "*" and above in reach(entries, place))
+        for entries, place, above in zip(hierarchies, cell, upper)
+    )
+
+
+def cells_of(hierarchies, view):
+    """The list of all cells of a view."""
+    lists = [["*"] if place == "*" else sorted(entry[0] for entry in entries if entry[1] == place)
+             for entries, place in zip(hierarchies, view)]
+    return list(itertools.product(*lists))
+
+
+def amounts_in(hierarchies, facts, cell):
+    """The amounts of the facts whose cells go into a cell."""
+    return [amount for place, amount in facts if goes_into(hierarchies, place, cell)]
