@@ -59,9 +59,10 @@ def reached_members(table):
     while len(found) < len(table):
         for name, _, _, parents in table.values():
             if name not in found and all([parent in found for parent in parents]):
+                # A dict, since several parents may reach the same member.
                 names = {name: True}
-                for parent in parents:
-                    names.update({other: True for other in found[parent]})
+                for upper in parents:
+                    names.update({other: True for other in found[upper]})
                 found[name] = list(names)
     return found
 
@@ -83,14 +84,14 @@ def shapes_by_name(table, ancestors):
     made = {}
     found = {}
     for name in table:
+        level = table[name][1]
         rows = [table[other] for other in ancestors[name].values()]
-        links = sorted([(level, table[parent][1]) for _, level, _, parents in rows for parent in parents])
-        marks = tuple(sorted([(level, mark) for _, level, mark, _ in rows if mark is not None]))
-        # Many members have equal shapes; each of them is made once.
-        key = (table[name][1], tuple(links), marks)
-        if key not in made:
-            made[key] = Shape(table[name][1], *links, marks=marks)
-        found[name] = made[key]
+        links = tuple(sorted([(row[1], table[parent][1]) for row in rows for parent in row[3]]))
+        marks = tuple(sorted([(row[1], row[2]) for row in rows if row[2] is not None]))
+        # Many members have equal shapes; each of these is made once.
+        if (level, links, marks) not in made:
+            made[(level, links, marks)] = Shape(level, *links, marks=marks)
+        found[name] = made[(level, links, marks)]
     return found
 
 

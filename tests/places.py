@@ -104,3 +104,40 @@ def cells_of(hierarchies, view):
 def amounts_in(hierarchies, facts, cell):
     """The amounts of the facts whose cells go into a cell."""
     return [amount for place, amount in facts if goes_into(hierarchies, place, cell)]
+
+
+def random_facts(chance, hierarchies, base, count, top=9):
+    """At most so many facts with different cells of the base view of these plain hierarchies."""
+    cells = cells_of(hierarchies, base)
+    chosen = chance.sample(cells, min(count, len(cells)))
+    return tuple((cell, chance.randint(-top, top)) for cell in chosen)
+
+
+def spot_hierarchy(shapes, level):
+    """Entries with a member for each part of these shapes, and two copies of those that reach the level.
+
+    Returned with the names of the copies by the text of the part.
+    """
+    parts = {str(shape.part(place)): shape.part(place) for shape in shapes for place in shape.levels}
+    names = {
+        text: [f"p{at}c{copy}" for copy in range(2 if level in parts[text].levels else 1)]
+        for at, text in enumerate(sorted(parts))
+    }
+    entries = []
+    for text, part in parts.items():
+        for copy, name in enumerate(names[text]):
+            above = [names[str(part.part(upper))] for lower, upper in part.links if lower == part.level]
+            parents = tuple(row[min(copy, len(row) - 1)] for row in above)
+            entries.append((name, part.level, part.mark(part.level), parents))
+    return entries, names
+
+
+def spot_facts(values, names, texts):
+    """The signed facts for values of base cell shapes: at the cells of all copies, changed for each second one."""
+    facts = []
+    for row, value in zip(texts, values):
+        copies = [range(len(found[text])) for found, text in zip(names, row)]
+        for chosen in itertools.product(*copies):
+            cell = tuple(found[text][copy] for found, text, copy in zip(names, row, chosen))
+            facts.append((cell, value * (-1) ** sum(chosen)))
+    return facts

@@ -265,7 +265,8 @@ class InterfaceTest(unittest.TestCase):
     FUNCTIONS = {
         "names.py": ["is_name", "is_link"], "texts.py": ["read_condition"], "linear.py": ["solve"],
         "consequences.py": ["is_possible", "follows", "breaking", "same_rules", "rules_difference", "idle_rules"],
-        "hierarchies.py": ["example_of"],
+        "hierarchies.py": ["example_of"], "cellshapes.py": ["passing", "part_at", "is_below", "texts_of"],
+        "sums.py": ["find_formula", "is_determined"],
     }
     CLASSES = {
         ("shapes.py", "Shape"): "__init__ read level levels links marks part mark __contains__ __eq__ __str__ __repr__",
@@ -276,6 +277,9 @@ class InterfaceTest(unittest.TestCase):
         ("hierarchies.py", "Hierarchy"): "__init__ of schema entries members entry shape ancestor below __len__ "
                                          "__contains__ __iter__ __eq__ __repr__",
         ("cubes.py", "Cube"): "__init__ schemas base is_view __len__ __eq__",
+        ("datasets.py", "Dataset"): "__init__ hierarchies cube facts is_cell cells total greatest least fact_count "
+                                    "table cell_shape with_facts __len__ __eq__ __repr__",
+        ("sums.py", "Formula"): "cube wanted stored rows used answer __len__ __repr__",
     }
     for kind in "Reaches Way Via Marked Not All Any One If".split():
         CLASSES["conditions.py", kind] = "__init__ __call__ WORD"
@@ -284,6 +288,22 @@ class InterfaceTest(unittest.TestCase):
         for name, wanted in self.FUNCTIONS.items():
             found = {node.name for node in TREES[name].body if isinstance(node, ast.FunctionDef)}
             self.assertTrue(set(wanted) <= found, name)
+
+    def test_parameters_have_their_names(self):
+        wanted = {
+            "names.py": "is_name(value) is_link(value)", "texts.py": "read_condition(text)",
+            "linear.py": "solve(rows,goal)", "hierarchies.py": "example_of(schema,shape)",
+            "consequences.py": "is_possible(schema,level) follows(schema,level,condition) "
+                               "breaking(schema,level,condition) same_rules(schema,other) "
+                               "rules_difference(schema,other) idle_rules(schema)",
+            "cellshapes.py": "passing(cube,view) part_at(cube,shapes,view) is_below(cube,shapes,upper) "
+                             "texts_of(cube,shapes)",
+            "sums.py": "find_formula(cube,wanted,stored) is_determined(cube,wanted,stored,*,measure='total')",
+        }
+        for name, words in wanted.items():
+            found = {f"{node.name}({ast.unparse(node.args)})".replace(" ", "")
+                     for node in TREES[name].body if isinstance(node, ast.FunctionDef)}
+            self.assertEqual(set(words.split()) - found, set(), name)
 
     def test_methods_stand_in_their_classes(self):
         for (name, kind), wanted in self.CLASSES.items():

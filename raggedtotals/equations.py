@@ -1,0 +1,42 @@
+"""The equations that the weights of a formula solve: one for each base cell shape that passes the wanted view."""
+
+from raggedtotals.cellshapes import lies_below, part_within, passing, texts_within
+
+
+def groups_at(cube, wanted):
+    """The pairs (part, base cell shapes) of all parts at the wanted view, in ascending order of their texts."""
+    groups = {}
+    for shapes in passing(cube, wanted):
+        part = part_within(shapes, wanted)
+        groups.setdefault(texts_within(part), (part, []))[1].append(shapes)
+    return [groups[texts] for texts in sorted(groups)]
+
+
+def counting(shapes, part, stored):
+    """The pairs (index, part there) of the stored views for which a base cell shape with this wanted part counts."""
+    found = []
+    for index, view in enumerate(stored):
+        lower = part_within(shapes, view)
+        if lower is not None and lies_below(lower, part):
+            found.append((index, lower))
+    return found
+
+
+def equations_of(part, group, stored):
+    """The pair (columns, rows) of the equations for a part at the wanted view.
+
+    A column is a pair (index, cell shape of this stored view); they stand in the order that terms have. There is a
+    row for each base cell shape of the group, with 1 for each index and cell shape that it has, and 0 for the others.
+    """
+    columns = {}
+    counted = []
+    for shapes in group:
+        found = {}
+        for index, lower in counting(shapes, part, stored):
+            key = (index, texts_within(lower))
+            columns[key] = (index, lower)
+            found[key] = True
+        counted.append(found)
+    order = sorted(columns)
+    rows = [tuple([int(place in keys) for place in order]) for keys in counted]
+    return [columns[place] for place in order], tuple(rows)
