@@ -12,7 +12,7 @@ def groups_at(cube, wanted):
     return [groups[texts] for texts in sorted(groups)]
 
 
-def counting(shapes, part, stored):
+def seen_parts(shapes, part, stored):
     """The pairs (index, part there) of the stored views for which a base cell shape with this wanted part counts."""
     found = []
     for index, view in enumerate(stored):
@@ -32,7 +32,7 @@ def equations_of(part, group, stored):
     counted = []
     for shapes in group:
         found = {}
-        for index, lower in counting(shapes, part, stored):
+        for index, lower in seen_parts(shapes, part, stored):
             key = (index, texts_within(lower))
             columns[key] = (index, lower)
             found[key] = True
