@@ -93,6 +93,12 @@ def totals_by_cell(dataset, view):
     return totals
 
 
+def totals_differ(first, second, view):
+    """Whether two datasets with the same hierarchies have different totals in some cell of the view."""
+    totals, others = totals_by_cell(first, view), totals_by_cell(second, view)
+    return any([totals.get(cell, 0) != others.get(cell, 0) for cell in [*totals, *others]])
+
+
 class Dataset:
     """One to three hierarchies, and facts with different cells of the base view."""
 

@@ -1,6 +1,7 @@
-"""The equations that the weights of a formula solve: one for each base cell shape that passes the wanted view."""
+"""For which stored views base cell shapes count, and the equations that the weights of a formula solve for them."""
 
 from raggedtotals.cellshapes import lies_below, part_within, passing, texts_within
+from raggedtotals.linear import solve
 
 
 def groups_at(cube, wanted):
@@ -22,6 +23,15 @@ def seen_parts(shapes, part, stored):
     return found
 
 
+def counts_at(cube, wanted, stored):
+    """The pairs (base cell shape, indexes for which it counts) of all that pass the wanted view, in their order."""
+    found = []
+    for shapes in passing(cube, wanted):
+        part = part_within(shapes, wanted)
+        found.append((shapes, [index for index, _ in seen_parts(shapes, part, stored)]))
+    return found
+
+
 def equations_of(part, group, stored):
     """The pair (columns, rows) of the equations for a part at the wanted view.
 
@@ -40,3 +50,15 @@ def equations_of(part, group, stored):
     order = sorted(columns)
     rows = [tuple([int(place in keys) for place in order]) for keys in counted]
     return [columns[place] for place in order], tuple(rows)
+
+
+def rows_among(columns, rows, chosen):
+    """The tuple of the rows of equations that remain if only the stored views with the chosen indexes are there."""
+    places = [place for place, column in enumerate(columns) if column[0] in chosen]
+    return tuple([tuple([row[place] for place in places]) for row in rows])
+
+
+def obstacle_of_ones(rows):
+    """The obstacle of equations with these rows and the goal 1 in each of them; None if they have a solution."""
+    _, obstacle = solve(rows, (1,) * len(rows))
+    return obstacle

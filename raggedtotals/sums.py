@@ -5,7 +5,7 @@ from math import lcm
 from raggedtotals.cellshapes import check_few, texts_within
 from raggedtotals.cubes import check_cube, check_stored, check_view
 from raggedtotals.datasets import cell_above, check_dataset, totals_by_cell
-from raggedtotals.equations import seen_parts, equations_of, groups_at
+from raggedtotals.equations import counts_at, equations_of, groups_at
 from raggedtotals.errors import InvalidMeasure, OtherCube
 from raggedtotals.limits import EVERYTHING
 from raggedtotals.linear import solve
@@ -47,8 +47,7 @@ def rows_for(cube, wanted, stored):
 
 def all_count(cube, wanted, stored):
     """Whether each base cell shape that passes the wanted view counts for some index of the stored views."""
-    groups = groups_at(cube, wanted)
-    return all([len(seen_parts(shapes, part, stored)) > 0 for part, group in groups for shapes in group])
+    return all([len(indexes) > 0 for _, indexes in counts_at(cube, wanted, stored)])
 
 
 def members_into(hierarchy, name, shape):

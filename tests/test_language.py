@@ -266,7 +266,9 @@ class InterfaceTest(unittest.TestCase):
         "names.py": ["is_name", "is_link"], "texts.py": ["read_condition"], "linear.py": ["solve"],
         "consequences.py": ["is_possible", "follows", "breaking", "same_rules", "rules_difference", "idle_rules"],
         "hierarchies.py": ["example_of"], "cellshapes.py": ["passing", "part_at", "is_below", "texts_of"],
-        "sums.py": ["find_formula", "is_determined"],
+        "sums.py": ["find_formula", "is_determined"], "blindspots.py": ["find_blind_spot", "sees"],
+        "counting.py": ["counted", "example_counted", "view_weights", "obstacle"], "stores.py": ["cheapest"],
+        "bans.py": ["exactly", "with_bans", "fewest_bans"],
     }
     CLASSES = {
         ("shapes.py", "Shape"): "__init__ read level levels links marks part mark __contains__ __eq__ __str__ __repr__",
@@ -280,6 +282,7 @@ class InterfaceTest(unittest.TestCase):
         ("datasets.py", "Dataset"): "__init__ hierarchies cube facts is_cell cells total greatest least fact_count "
                                     "table cell_shape with_facts __len__ __eq__ __repr__",
         ("sums.py", "Formula"): "cube wanted stored rows used answer __len__ __repr__",
+        ("blindspots.py", "BlindSpot"): "first second cell", ("stores.py", "Plan"): "chosen price evidence",
     }
     for kind in "Reaches Way Via Marked Not All Any One If".split():
         CLASSES["conditions.py", kind] = "__init__ __call__ WORD"
@@ -299,6 +302,11 @@ class InterfaceTest(unittest.TestCase):
             "cellshapes.py": "passing(cube,view) part_at(cube,shapes,view) is_below(cube,shapes,upper) "
                              "texts_of(cube,shapes)",
             "sums.py": "find_formula(cube,wanted,stored) is_determined(cube,wanted,stored,*,measure='total')",
+            "blindspots.py": "find_blind_spot(cube,wanted,stored,*,measure='total') sees(blind_spot,view)",
+            "counting.py": "counted(cube,wanted,stored) example_counted(cube,wanted,stored,times) "
+                           "view_weights(cube,wanted,stored) obstacle(cube,wanted,stored)",
+            "stores.py": "cheapest(cube,wanteds,candidates,prices)",
+            "bans.py": "exactly(schema,shape) with_bans(schema,*shapes) fewest_bans(schema,wanted,stored)",
         }
         for name, words in wanted.items():
             found = {f"{node.name}({ast.unparse(node.args)})".replace(" ", "")
