@@ -40,6 +40,15 @@ def check_stored(cube, stored):
             raise InvalidStored(index)
 
 
+def check_different(cube, views):
+    """Raise InvalidStored if the value is not a tuple of different views of the cube, not too many of them."""
+    if not isinstance(views, tuple) or len(views) > MAX_STORED:
+        raise InvalidStored(None)
+    for index, view in enumerate(views):
+        if not cube.is_view(view) or view in views[:index]:
+            raise InvalidStored(index)
+
+
 class Cube:
     """One to three dimensions, each with a schema."""
 

@@ -93,6 +93,21 @@ def totals_by_cell(dataset, view):
     return totals
 
 
+def greatest_by_cell(dataset, view):
+    """The greatest amounts of those cells of the view that the cells of facts go into."""
+    found = {}
+    for place, amount in dataset.facts:
+        cell = cell_above(dataset.hierarchies, place, view)
+        if cell is not None:
+            found[cell] = max(amount, found.get(cell, amount))
+    return found
+
+
+def greatest_differ(first, second, view):
+    """Whether two datasets with the same hierarchies have different greatest amounts in some cell of the view."""
+    return greatest_by_cell(first, view) != greatest_by_cell(second, view)
+
+
 def totals_differ(first, second, view):
     """Whether two datasets with the same hierarchies have different totals in some cell of the view."""
     totals, others = totals_by_cell(first, view), totals_by_cell(second, view)

@@ -4,7 +4,7 @@ from math import lcm
 
 from raggedtotals.cellshapes import check_few, texts_within
 from raggedtotals.cubes import check_cube, check_stored, check_view
-from raggedtotals.datasets import cell_above, check_dataset, totals_by_cell
+from raggedtotals.datasets import cell_above, check_cell, check_dataset, totals_by_cell
 from raggedtotals.equations import counts_at, equations_of, groups_at
 from raggedtotals.errors import InvalidMeasure, OtherCube
 from raggedtotals.limits import EVERYTHING
@@ -114,6 +114,12 @@ class Formula:
 
     def answer(self, dataset, cell):
         """The total of the cell that the formula gives."""
+        self._check(dataset, cell)
+        tables = [totals_by_cell(dataset, view) for view in self._stored]
+        return self.answer_by(dataset, cell, tables)
+
+    def answer_by(self, dataset, cell, tables):
+        """The same, from tables of the totals of stored cells, one for each stored view; a missing total is 0."""
         terms = self._terms_at(dataset, cell)
         common = 1
         for term in terms:
@@ -121,20 +127,22 @@ class Formula:
         weights = weights_by_index(terms, common)
         total = 0
         for index in weights:
-            view = self._stored[index]
-            totals = totals_by_cell(dataset, view)
-            for lower in totals:
-                # Stored cells that no fact goes into have the total 0 and need no look.
+            for lower in tables[index]:
                 if cell_above(dataset.hierarchies, lower, self._wanted) == cell:
-                    texts = texts_within(dataset.cell_shape(view, lower))
-                    total = total + weights[index].get(texts, 0) * totals[lower]
+                    texts = texts_within(dataset.cell_shape(self._stored[index], lower))
+                    total = total + weights[index].get(texts, 0) * tables[index][lower]
         return total // common
 
-    def _terms_at(self, dataset, cell):
-        """The terms for a cell of the wanted view in the dataset."""
+    def _check(self, dataset, cell):
+        """Raise an error if these are not a dataset of the cube and a cell of the wanted view."""
         check_dataset(dataset)
         if dataset.cube != self._cube:
             raise OtherCube()
+        check_cell(dataset, self._wanted, cell)
+
+    def _terms_at(self, dataset, cell):
+        """The terms for a cell of the wanted view in the dataset."""
+        self._check(dataset, cell)
         shapes = dataset.cell_shape(self._wanted, cell)
         return self._terms.get(texts_within(shapes), ())
 

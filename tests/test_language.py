@@ -11,7 +11,7 @@ FOLDER = os.path.dirname(raggedtotals.__file__)
 FILES = sorted(name for name in os.listdir(FOLDER) if name != "__pycache__")
 BUILTINS = set(
     "len range enumerate zip min max sum abs sorted reversed int str bool list tuple dict set isinstance ord repr any "
-    "all divmod super iter property staticmethod Exception ValueError TypeError KeyError IndexError LookupError "
+    "all divmod super iter type property staticmethod Exception ValueError TypeError KeyError IndexError LookupError "
     "ZeroDivisionError ArithmeticError OverflowError RuntimeError NotImplementedError".split()
 )
 METHODS = set(
@@ -200,7 +200,7 @@ class NameTest(unittest.TestCase):
     def test_decorators(self):
         for place, node in walk(ast.FunctionDef):
             for item in node.decorator_list:
-                self.assertIn(ast.unparse(item), ("property", "staticmethod"), place)
+                self.assertIn(ast.unparse(item), ("property", "staticmethod", f"{node.name}.setter"), place)
 
     def test_is_stands_beside_none(self):
         for place, node in walk(ast.Compare):
@@ -209,17 +209,20 @@ class NameTest(unittest.TestCase):
                     self.assertIn(ast.unparse(right), ("None", "True", "False"), place)
 
     def test_properties_and_methods_are_apart(self):
-        properties, methods, attributes = set(), set(), set()
+        properties, methods, attributes, settable = set(), set(), set(), set()
         for _, node in walk(ast.ClassDef):
             for item in node.body:
                 if isinstance(item, ast.FunctionDef):
                     marked = [ast.unparse(row) for row in item.decorator_list]
-                    (properties if "property" in marked else methods).add(item.name)
+                    kind = properties if {"property", f"{item.name}.setter"} & set(marked) else methods
+                    kind.add(item.name)
+                    if f"{item.name}.setter" in marked:
+                        settable.add(item.name)
         for _, node in walk(ast.Attribute):
             if isinstance(node.ctx, ast.Store):
                 attributes.add(node.attr)
         self.assertEqual(properties & methods, set())
-        self.assertEqual(attributes & (methods | properties), set())
+        self.assertEqual(attributes & (methods | properties), settable)
 
 
 class UseTest(unittest.TestCase):
@@ -268,7 +271,9 @@ class InterfaceTest(unittest.TestCase):
         "hierarchies.py": ["example_of"], "cellshapes.py": ["passing", "part_at", "is_below", "texts_of"],
         "sums.py": ["find_formula", "is_determined"], "blindspots.py": ["find_blind_spot", "sees"],
         "counting.py": ["counted", "example_counted", "view_weights", "obstacle"], "stores.py": ["cheapest"],
-        "bans.py": ["exactly", "with_bans", "fewest_bans"],
+        "bans.py": ["exactly", "with_bans", "fewest_bans"], "warehouses.py": ["set_views", "what_if"],
+        "reports.py": ["report"], "checker.py": ["holds"],
+        "certificates.py": ["certify_follows", "certify_totals", "certify_greatest", "certify_price"],
     }
     CLASSES = {
         ("shapes.py", "Shape"): "__init__ read level levels links marks part mark __contains__ __eq__ __str__ __repr__",
@@ -283,6 +288,8 @@ class InterfaceTest(unittest.TestCase):
                                     "table cell_shape with_facts __len__ __eq__ __repr__",
         ("sums.py", "Formula"): "cube wanted stored rows used answer __len__ __repr__",
         ("blindspots.py", "BlindSpot"): "first second cell", ("stores.py", "Plan"): "chosen price evidence",
+        ("warehouses.py", "Warehouse"): "__init__ do do_all undo dataset cube history views kept ask sources __len__ "
+                                        "__repr__",
     }
     for kind in "Reaches Way Via Marked Not All Any One If".split():
         CLASSES["conditions.py", kind] = "__init__ __call__ WORD"
@@ -307,6 +314,10 @@ class InterfaceTest(unittest.TestCase):
                            "view_weights(cube,wanted,stored) obstacle(cube,wanted,stored)",
             "stores.py": "cheapest(cube,wanteds,candidates,prices)",
             "bans.py": "exactly(schema,shape) with_bans(schema,*shapes) fewest_bans(schema,wanted,stored)",
+            "warehouses.py": "set_views(warehouse,views) what_if(warehouse,view,cell,*deeds)",
+            "reports.py": "report(cube,stored,*views)", "checker.py": "holds(claim,certificate)",
+            "certificates.py": "certify_follows(schema,level,condition) certify_totals(cube,wanted,stored) "
+                               "certify_greatest(cube,wanted,stored) certify_price(cube,wanteds,candidates,prices)",
         }
         for name, words in wanted.items():
             found = {f"{node.name}({ast.unparse(node.args)})".replace(" ", "")
