@@ -3,13 +3,12 @@
 from raggedtotals.cellshapes import passing
 from raggedtotals.choices import cheapest_good
 from raggedtotals.conditions import All, Marked, Not, Way
-from raggedtotals.cubes import Cube
+from raggedtotals.cubes import Cube, check_stored, check_view
 from raggedtotals.equations import equations_of, groups_at, obstacle_of_ones
 from raggedtotals.errors import InvalidShapes, NotAllowed, TooMany
 from raggedtotals.limits import MAX_BANNED, MAX_RULES
 from raggedtotals.schemas import Schema, check_schema
 from raggedtotals.shapes import Shape, check_shape
-from raggedtotals.sums import check_question
 
 
 def ways_within(shape):
@@ -31,10 +30,11 @@ def condition_of(schema, shape):
     conditions = []
     for lower, upper in schema.links:
         if lower in ways:
-            way = Way(*ways[lower], upper)
+            steps = (*ways[lower], upper)
+            way = Way(*steps)
             conditions.append(way if (lower, upper) in shape.links else Not(way))
-    marks = [Marked(level, mark) for level, mark in shape.marks]
-    return All(*conditions, *marks)
+    conditions.extend([Marked(level, mark) for level, mark in shape.marks])
+    return All(*conditions)
 
 
 def exactly(schema, shape):
@@ -63,8 +63,10 @@ def with_bans(schema, *shapes):
     check_banned(schema, shapes)
     if len(schema.rules) + len(shapes) > MAX_RULES:
         raise TooMany(MAX_RULES)
-    bans = [(schema.base, Not(condition_of(schema, shape))) for shape in shapes]
-    return Schema(schema.base, *schema.links, marks=schema.marks, rules=(*schema.rules, *bans))
+    base, links, marks = schema.base, schema.links, schema.marks
+    bans = [(base, Not(condition_of(schema, shape))) for shape in shapes]
+    rules = (*schema.rules, *bans)
+    return Schema(base, *links, marks=marks, rules=rules)
 
 
 def fewest_away(rows):
@@ -78,17 +80,19 @@ def fewest_away(rows):
             return None
         return [place for place, number in zip(kept, numbers) if number != 0], None
 
-    chosen, _, _ = cheapest_good((1,) * len(rows), hurdle_for)
-    return chosen
+    away, _, _ = cheapest_good((1,) * len(rows), hurdle_for)
+    return away
 
 
 def fewest_bans(schema, wanted, stored):
     """As few shapes of the base as possible without which the stored views determine the wanted one."""
     check_schema(schema)
     cube = Cube(schema)
-    check_question(cube, wanted, stored)
+    check_view(cube, wanted)
+    # This needs the schema and the wanted view alone, so it comes before the stored views.
     if len(list(passing(cube, wanted))) > MAX_BANNED:
         raise TooMany(MAX_BANNED)
+    check_stored(cube, stored)
     banned = []
     for part, group in groups_at(cube, wanted):
         _, rows = equations_of(part, group, stored)

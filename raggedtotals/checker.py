@@ -51,9 +51,9 @@ def texts_at(parts, view):
 
 
 def shape_named(level, text):
-    """The shape of the level with this text, or the sign for everything where it stands for both; otherwise None."""
-    if level == EVERYTHING or text == EVERYTHING:
-        return EVERYTHING if text == level else None
+    """The shape of the level with this text, or the sign for everything where a view has it; None if it is neither."""
+    if level == EVERYTHING:
+        return EVERYTHING if text == EVERYTHING else None
     shape = shape_of(text)
     return shape if shape is not None and shape.level == level else None
 
@@ -160,38 +160,34 @@ def holds_greatest(claim, certificate):
     return True
 
 
-def unseen_total(cube, wanted, stored, data):
-    """The indexes of the stored views in which both datasets of a DATA have the same totals.
+def value_at(dataset, view, cell, measure):
+    """The total or the greatest amount of a cell."""
+    return dataset.total(view, cell) if measure == "total" else dataset.greatest(view, cell)
 
-    None if it is not as required, or if the totals in its cell are the same.
+
+def values_differ(first, second, view, measure):
+    """Whether two datasets have different totals, or greatest amounts, in some cell of the view."""
+    return totals_differ(first, second, view) if measure == "total" else greatest_differ(first, second, view)
+
+
+def unseen_by(cube, wanted, stored, data, measure):
+    """The indexes of the stored views in which both datasets of a DATA look alike.
+
+    None if it is not as required, or if its cell looks alike, too.
     """
     found = data_of(cube, wanted, data)
     if found is None:
         return None
     first, second, cell = found
-    if first.total(wanted, cell) == second.total(wanted, cell):
+    if value_at(first, wanted, cell, measure) == value_at(second, wanted, cell, measure):
         return None
-    return [index for index, view in enumerate(stored) if not totals_differ(first, second, view)]
+    return [index for index, view in enumerate(stored) if not values_differ(first, second, view, measure)]
 
 
-def unseen_greatest(cube, wanted, stored, data):
-    """The same with greatest in the place of totals."""
-    found = data_of(cube, wanted, data)
-    if found is None:
-        return None
-    first, second, cell = found
-    if first.greatest(wanted, cell) == second.greatest(wanted, cell):
-        return None
-    return [index for index, view in enumerate(stored) if not greatest_differ(first, second, view)]
-
-
-def holds_spot(word, claim, certificate):
+def holds_spot(claim, certificate, measure):
     """Whether the certificate is a DATA that looks alike in all stored views, but not in its cell."""
     cube, wanted, stored = claim
-    if word == "not determined":
-        unseen = unseen_total(cube, wanted, stored, certificate)
-    else:
-        unseen = unseen_greatest(cube, wanted, stored, certificate)
+    unseen = unseen_by(cube, wanted, stored, certificate, measure)
     return unseen is not None and len(unseen) == len(stored)
 
 
@@ -202,7 +198,7 @@ def unseen_by_pair(cube, wanteds, stored, pair):
     index, data = pair
     if not is_integer(index) or index not in range(len(wanteds)):
         return None
-    return unseen_total(cube, wanteds[index], stored, data)
+    return unseen_by(cube, wanteds[index], stored, data, "total")
 
 
 def holds_price(claim, certificate):
@@ -219,24 +215,34 @@ def holds_price(claim, certificate):
     return True
 
 
-def holds_plain(word, pieces, certificate):
-    """Whether the certificate is right for the claim with this word and these further pieces."""
-    if word in ("follows", "does not follow"):
-        claim = rule_claim(pieces)
-        if claim is None:
-            return False
-        return holds_follows(claim, certificate) if word == "follows" else holds_broken(claim, certificate)
-    if word == "price":
-        claim = price_claim(pieces)
-        return claim is not None and holds_price(claim, certificate)
-    claim = view_claim(pieces)
+def holds_rule(word, claim, certificate):
+    """Whether the certificate is right for a claim about a condition; None stands for a claim of a wrong form."""
+    if claim is None:
+        return False
+    return holds_follows(claim, certificate) if word == "follows" else holds_broken(claim, certificate)
+
+
+def holds_view(word, claim, certificate):
+    """Whether the certificate is right for a claim about a view; None stands for a claim of a wrong form."""
     if claim is None:
         return False
     if word == "determined":
         return holds_determined(claim, certificate)
     if word == "greatest determined":
         return holds_greatest(claim, certificate)
-    return word in ("not determined", "greatest not determined") and holds_spot(word, claim, certificate)
+    return holds_spot(claim, certificate, "total" if word == "not determined" else "greatest")
+
+
+def holds_plain(word, pieces, certificate):
+    """Whether the certificate is right for the claim with this word and these further pieces."""
+    if word in ("follows", "does not follow"):
+        return holds_rule(word, rule_claim(pieces), certificate)
+    if word in ("determined", "not determined", "greatest determined", "greatest not determined"):
+        return holds_view(word, view_claim(pieces), certificate)
+    if word == "price":
+        claim = price_claim(pieces)
+        return claim is not None and holds_price(claim, certificate)
+    return False
 
 
 def holds(claim, certificate):

@@ -43,7 +43,8 @@ def copied(schema, shapes, level):
     """
     parts = parts_by_text(shapes)
     names = names_by_text(parts, level)
-    return Hierarchy(schema, *entries_from(parts, names)), names
+    entries = entries_from(parts, names)
+    return Hierarchy(schema, *entries), names
 
 
 def copied_cells(names, shapes):

@@ -35,7 +35,8 @@ def example_counted(cube, wanted, stored, times):
         if len(indexes) == times:
             hierarchies = [example_of(schema, shape) for schema, shape in zip(cube.schemas, shapes)]
             # Members of examples have the names of their levels, so views are cells, too.
-            return Dataset(*hierarchies, facts=((cube.base, 1),)), wanted
+            facts = ((cube.base, 1),)
+            return Dataset(*hierarchies, facts=facts), wanted
     return None
 
 

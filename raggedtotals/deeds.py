@@ -32,8 +32,10 @@ def names_in_facts(dataset, place):
 
 def with_hierarchy(dataset, place, hierarchy):
     """The dataset with this hierarchy in a dimension, and with the same facts."""
-    before, behind = dataset.hierarchies[:place], dataset.hierarchies[place + 1:]
-    return Dataset(*before, hierarchy, *behind, facts=dataset.facts)
+    hierarchies = list(dataset.hierarchies)
+    hierarchies[place] = hierarchy
+    facts = dataset.facts
+    return Dataset(*hierarchies, facts=facts)
 
 
 def after_put(dataset, place, entries):
@@ -45,7 +47,8 @@ def after_put(dataset, place, entries):
     for name, level, _, _ in added.values():
         if name in used and level != schema.base:
             raise HasFacts(name)
-    table = {entry[0]: entry for entry in [*hierarchy.entries, *added.values()]}
+    before = {entry[0]: entry for entry in hierarchy.entries}
+    table = {**before, **added}
     members = [table[name] for name in sorted(table)]
     return with_hierarchy(dataset, place, Hierarchy(schema, *members))
 

@@ -58,7 +58,8 @@ def systems_of(cube, wanteds, candidates):
     found = []
     for index, wanted in enumerate(wanteds):
         for part, group in groups_at(cube, wanted):
-            found.append((index, group, *equations_of(part, group, candidates)))
+            columns, rows = equations_of(part, group, candidates)
+            found.append((index, group, columns, rows))
     return found
 
 
@@ -107,8 +108,8 @@ def plan_of(cube, wanteds, candidates, prices):
     # Without this look at all of them, each smaller set would be tried in vain.
     if hurdle_for(tuple(range(len(candidates)))) is not None:
         return None
-    chosen, price, evidence = cheapest_good(prices, hurdle_for)
-    return Plan(chosen, price, tuple(evidence))
+    best, price, evidence = cheapest_good(prices, hurdle_for)
+    return Plan(best, price, tuple(evidence))
 
 
 def cheapest(cube, wanteds, candidates, prices):

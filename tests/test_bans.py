@@ -323,7 +323,9 @@ class FewestTest(BanCase):
 
     def test_the_order_of_errors(self):
         self.raises(TooMany, {"limit": 12}, fewest_bans, SIXTY, ("*",), ())
-        self.raises(InvalidStored, {"index": 0}, fewest_bans, SIXTY, ("*",), (5,))
+        # The limit is one of the schema and the wanted view, so it comes before the stored views.
+        self.raises(TooMany, {"limit": 12}, fewest_bans, SIXTY, ("*",), (5,))
+        self.raises(InvalidStored, {"index": 0}, fewest_bans, METRO, ("*",), (5,))
         self.raises(InvalidView, {"value": "*"}, fewest_bans, SIXTY, "*", (5,))
         self.raises(NotASchema, {"value": 5}, fewest_bans, 5, "*", (5,))
 

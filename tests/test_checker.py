@@ -270,6 +270,15 @@ class RuleClaimTest(CheckerCase):
                 seen[self.judge(("follows", text, schema.base, "all()"), tuple(rows))] += 1
         self.assertTrue(min(seen.values()) > 60, seen)
 
+    def test_parts_that_cannot_stand_together(self):
+        # Below d with and without e nothing can be built from one b and another c.
+        text = "base a\nlink a b\nlink a c\nlink b d\nlink c d\nlink d e\nmarks e x y\nrule b reaches(e)"
+        for schema in (Schema.read(text), Schema.read(text + "\nrule c way(d)"), Schema.read(text + "\nrule d way(e)")):
+            claim, certificate = certify_follows(schema, "b", Reaches("e"))
+            self.good(claim, certificate)
+            for at in range(len(certificate)):
+                self.bad(claim, certificate[:at] + certificate[at + 1:])
+
     def test_marks(self):
         text = "base a\nlink a b\nmarks b x y\nrule a marked(b, x)"
         claim = ("follows", text, "a", "way(b)")
@@ -584,6 +593,14 @@ class StrangeTest(CheckerCase):
                 self.assertIs(holds(claim, near), False)
             self.assertIs(holds((*claim, deep), certificate), False)
             self.assertIs(holds(deep, certificate), False)
+
+    def test_very_deep_values(self):
+        deep = ()
+        for _ in range(5000):
+            deep = (deep,)
+        for claim, certificate in self.pairs():
+            self.same([holds(claim, deep), holds(deep, certificate), holds((*claim[:-1], deep), certificate)],
+                      [False, False, False])
 
     def test_by_position_and_by_name(self):
         for claim, certificate in self.pairs():

@@ -264,6 +264,42 @@ class UseTest(unittest.TestCase):
                 self.assertIn(node.name, DOUBLES, place)
 
 
+def is_plain_argument(node):
+    """Whether an expression may be starred in a call, or stand behind a star."""
+    if isinstance(node, (ast.Tuple, ast.List)):
+        return all(is_plain_argument(item) for item in node.elts)
+    if isinstance(node, ast.Attribute):
+        return isinstance(node.value, ast.Name) and node.attr not in PROPERTIES
+    return isinstance(node, (ast.Name, ast.Constant))
+
+
+PROPERTIES = {node.name for _, node in walk(ast.FunctionDef)
+              if "property" in [ast.unparse(item) for item in node.decorator_list]}
+
+
+class CallTest(unittest.TestCase):
+    def test_stars_in_calls(self):
+        for place, node in walk(ast.Call):
+            starred = [at for at, item in enumerate(node.args) if isinstance(item, ast.Starred)]
+            if starred:
+                self.assertEqual(len(starred), 1, place)
+                self.assertTrue(is_plain_argument(node.args[starred[0]].value), place)
+                behind = node.args[starred[0] + 1:] + [item.value for item in node.keywords]
+                self.assertTrue(all(is_plain_argument(item) for item in behind), place)
+
+    def test_views_of_dicts_are_iterated_on_the_spot(self):
+        for name, tree in TREES.items():
+            parents = {child: node for node in ast.walk(tree) for child in ast.iter_child_nodes(node)}
+            for node in ast.walk(tree):
+                if isinstance(node, ast.Call) and ast.unparse(node.func).split(".")[-1] in (
+                        "values", "items", "keys", "zip", "enumerate", "reversed", "range"):
+                    above = parents[node]
+                    good = isinstance(above, (ast.For, ast.comprehension)) or isinstance(above, ast.Compare) or (
+                        isinstance(above, ast.Call) and ast.unparse(above.func) in (
+                            "list", "tuple", "sorted", "enumerate", "reversed", "zip", "sum", "dict", "len"))
+                    self.assertTrue(good, f"{name}:{node.lineno}")
+
+
 class InterfaceTest(unittest.TestCase):
     FUNCTIONS = {
         "names.py": ["is_name", "is_link"], "texts.py": ["read_condition"], "linear.py": ["solve"],
